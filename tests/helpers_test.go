@@ -41,3 +41,67 @@ func lets(count int) []impl.Stmt {
 	}
 	return list
 }
+
+// sameNumbers reports whether two lists have the same numbers; nil and empty are the same.
+func sameNumbers(a []int, b []int) bool {
+	if len(a) != len(b) {
+		return false
+	}
+	for i := range a {
+		if a[i] != b[i] {
+			return false
+		}
+	}
+	return true
+}
+
+// sameFlags reports whether two lists tell the same.
+func sameFlags(a []bool, b []bool) bool {
+	if len(a) != len(b) {
+		return false
+	}
+	for i := range a {
+		if a[i] != b[i] {
+			return false
+		}
+	}
+	return true
+}
+
+// sameState reports whether two states have the same lists.
+func sameState(a impl.State, b impl.State) bool {
+	return sameNumbers(a.At, b.At) && sameNumbers(a.Regs, b.Regs) && sameNumbers(a.Mem, b.Mem) &&
+		sameNumbers(a.Owner, b.Owner) && sameNumbers(a.Chan, b.Chan)
+}
+
+// sameOutcome reports whether two outcomes have the same lists.
+func sameOutcome(a impl.Outcome, b impl.Outcome) bool {
+	return sameNumbers(a.Regs, b.Regs) && sameNumbers(a.Mem, b.Mem) && sameFlags(a.Done, b.Done)
+}
+
+// sameOutcomes reports whether two lists have the same outcomes, in the same order.
+func sameOutcomes(a []impl.Outcome, b []impl.Outcome) bool {
+	if len(a) != len(b) {
+		return false
+	}
+	for i := range a {
+		if !sameOutcome(a[i], b[i]) {
+			return false
+		}
+	}
+	return true
+}
+
+// noPrograms returns programs that are none.
+func noPrograms() []impl.Program {
+	return []impl.Program{
+		{},
+		programOf(nil, nil, nil, nil),
+		programOf(lets(7)),
+		programOf(lets(6), lets(4)),
+		programOf([]impl.Stmt{{Kind: 11}}),
+		programOf(lets(1), []impl.Stmt{{Kind: impl.StLoad, A: 3}}),
+		programOf([]impl.Stmt{{Kind: impl.StSkip, A: 0, B: 0}}, nil),
+		programOf([]impl.Stmt{{Kind: impl.StFence, Strong: true}}),
+	}
+}

@@ -1,0 +1,199 @@
+package tests
+
+import "loop.example/wholethreads/impl"
+
+// A second, plain telling of what statements do, and of all interleavings, against which that of the program is held. Kinds and limits are the document's figures.
+
+// plainState is a state as arrays; what a program has no thread for stays 0.
+type plainState struct {
+	at    [3]int
+	regs  [3][3]int
+	mem   [3]int
+	owner [2]int
+	chans [2]int
+}
+
+func plainBegin() plainState {
+	return plainState{owner: [2]int{-1, -1}, chans: [2]int{-1, -1}}
+}
+
+// plainOf returns a state that has the right lengths as arrays.
+func plainOf(s impl.State) plainState {
+	plain := plainState{}
+	for thread := range s.At {
+		plain.at[thread] = s.At[thread]
+		for r := range 3 {
+			plain.regs[thread][r] = s.Regs[3*thread+r]
+		}
+	}
+	for i := range 3 {
+		plain.mem[i] = s.Mem[i]
+	}
+	for i := range 2 {
+		plain.owner[i] = s.Owner[i]
+		plain.chans[i] = s.Chan[i]
+	}
+	return plain
+}
+
+// stateOf returns a plain state of so many threads as lists.
+func stateOf(plain plainState, threads int) impl.State {
+	s := impl.State{}
+	for thread := range threads {
+		s.At = append(s.At, plain.at[thread])
+		for r := range 3 {
+			s.Regs = append(s.Regs, plain.regs[thread][r])
+		}
+	}
+	for i := range 3 {
+		s.Mem = append(s.Mem, plain.mem[i])
+	}
+	for i := range 2 {
+		s.Owner = append(s.Owner, plain.owner[i])
+		s.Chan = append(s.Chan, plain.chans[i])
+	}
+	return s
+}
+
+// plainSum returns a sum of a thread that has such registers.
+func plainSum(regs [3]int, r int, value int) int {
+	sum := value
+	if r >= 0 {
+		sum += regs[r]
+	}
+	for sum >= 4 {
+		sum -= 4
+	}
+	return sum
+}
+
+// plainStep returns the state behind the next statement of a thread, and whether it can do it.
+func plainStep(p impl.Program, s plainState, thread int) (plainState, bool) {
+	at := s.at[thread]
+	if at == len(p.Threads[thread]) {
+		return s, false
+	}
+	st := p.Threads[thread][at]
+	regs := s.regs[thread]
+	s.at[thread] = at + 1
+	switch st.Kind {
+	case 0:
+		s.regs[thread][st.A] = plainSum(regs, st.B, st.C)
+	case 1:
+		s.regs[thread][st.A] = s.mem[st.B]
+	case 2:
+		s.mem[st.A] = plainSum(regs, st.B, st.C)
+	case 3:
+		s.regs[thread][st.A] = s.mem[st.B]
+		s.mem[st.B] = st.C
+	case 4:
+		s.regs[thread][st.A] = s.mem[st.B]
+		s.mem[st.B] = plainSum(s.mem, st.B, st.C)
+	case 6:
+		if s.owner[st.A] >= 0 {
+			return s, false
+		}
+		s.owner[st.A] = thread
+	case 7:
+		if s.owner[st.A] != thread {
+			return s, false
+		}
+		s.owner[st.A] = -1
+	case 8:
+		if s.chans[st.A] >= 0 {
+			return s, false
+		}
+		s.chans[st.A] = plainSum(regs, st.B, st.C)
+	case 9:
+		if s.chans[st.B] < 0 {
+			return s, false
+		}
+		s.regs[thread][st.A] = s.chans[st.B]
+		s.chans[st.B] = -1
+	case 10:
+		for passed := 0; regs[st.A] == 0 && passed < st.B && s.at[thread] < len(p.Threads[thread]); passed++ {
+			s.at[thread]++
+		}
+	}
+	return s, true
+}
+
+// plainOutcome returns what a state has.
+func plainOutcome(p impl.Program, s plainState) impl.Outcome {
+	lists := stateOf(s, len(p.Threads))
+	o := impl.Outcome{Regs: lists.Regs, Mem: lists.Mem}
+	for thread, stmts := range p.Threads {
+		o.Done = append(o.Done, s.at[thread] == len(stmts))
+	}
+	return o
+}
+
+// ahead reports whether an outcome stands ahead of another one of the same program.
+func ahead(a impl.Outcome, b impl.Outcome) bool {
+	figuresA := append(append([]int{}, a.Regs...), a.Mem...)
+	figuresB := append(append([]int{}, b.Regs...), b.Mem...)
+	for i := range figuresA {
+		if figuresA[i] != figuresB[i] {
+			return figuresA[i] < figuresB[i]
+		}
+	}
+	for i := range a.Done {
+		if a.Done[i] != b.Done[i] {
+			return b.Done[i]
+		}
+	}
+	return false
+}
+
+// walk is what all interleavings come to: states, each once, and outcomes, each once and in order.
+type walk struct {
+	states   []plainState
+	outcomes []impl.Outcome
+}
+
+func (w *walk) addState(s plainState) {
+	for _, other := range w.states {
+		if other == s {
+			return
+		}
+	}
+	w.states = append(w.states, s)
+}
+
+func (w *walk) addOutcome(o impl.Outcome) {
+	behind := []impl.Outcome{}
+	before := []impl.Outcome{}
+	for _, other := range w.outcomes {
+		if sameOutcome(other, o) {
+			return
+		}
+		if ahead(other, o) {
+			before = append(before, other)
+		} else {
+			behind = append(behind, other)
+		}
+	}
+	w.outcomes = append(append(before, o), behind...)
+}
+
+// from plays each interleaving to its end, those that come by the same state too.
+func (w *walk) from(p impl.Program, s plainState) {
+	w.addState(s)
+	ended := true
+	for thread := range p.Threads {
+		if next, ok := plainStep(p, s, thread); ok {
+			ended = false
+			w.from(p, next)
+		}
+	}
+	if ended {
+		w.addOutcome(plainOutcome(p, s))
+	}
+}
+
+// walkOf returns what all interleavings of a program come to.
+func walkOf(p impl.Program) walk {
+	w := walk{}
+	w.from(p, plainBegin())
+	return w
+}
