@@ -197,3 +197,130 @@ func walkOf(p impl.Program) walk {
 	w.from(p, plainBegin())
 	return w
 }
+
+// plainOrders is all orders of a program, by the first thread that differs, and those of them that are whole.
+type plainOrders struct {
+	all   [][]int
+	whole [][]int
+}
+
+// longer returns a new list with a number more.
+func longer(list []int, n int) []int { return append(append([]int{}, list...), n) }
+
+// from adds all orders that begin with one, behind which is a state.
+func (o *plainOrders) from(p impl.Program, s plainState, order []int) {
+	o.all = append(o.all, order)
+	ended := true
+	for thread := range p.Threads {
+		if next, ok := plainStep(p, s, thread); ok {
+			ended = false
+			o.from(p, next, longer(order, thread))
+		}
+	}
+	if ended {
+		o.whole = append(o.whole, order)
+	}
+}
+
+// plainOrdersOf returns the orders of a program.
+func plainOrdersOf(p impl.Program) plainOrders {
+	o := plainOrders{}
+	o.from(p, plainBegin(), []int{})
+	return o
+}
+
+// plainEvents returns the events of an order, the state behind it, and whether it is one.
+func plainEvents(p impl.Program, order []int) ([]impl.Event, plainState, bool) {
+	events := []impl.Event{}
+	s := plainBegin()
+	for _, thread := range order {
+		if thread < 0 || thread >= len(p.Threads) {
+			return nil, s, false
+		}
+		next, ok := plainStep(p, s, thread)
+		if !ok {
+			return nil, s, false
+		}
+		at := s.at[thread]
+		events = append(events, impl.Event{Thread: thread, At: at, Stmt: p.Threads[thread][at]})
+		s = next
+	}
+	return events, s, true
+}
+
+// plainThing returns a number for the place, lock or channel of a statement, -1 if it has none, and whether it only reads.
+func plainThing(s impl.Stmt) (int, bool) {
+	switch s.Kind {
+	case 1:
+		return s.B, true
+	case 2:
+		return s.A, false
+	case 3, 4:
+		return s.B, false
+	case 6, 7:
+		return 10 + s.A, false
+	case 8:
+		return 20 + s.A, false
+	case 9:
+		return 20 + s.B, false
+	}
+	return -1, true
+}
+
+// plainDepend reports whether two events of a program depend on each other.
+func plainDepend(a impl.Event, b impl.Event) bool {
+	thingA, readsA := plainThing(a.Stmt)
+	thingB, readsB := plainThing(b.Stmt)
+	return a.Thread == b.Thread || thingA >= 0 && thingA == thingB && !(readsA && readsB)
+}
+
+// hasOrder reports whether a list has an order.
+func hasOrder(list [][]int, order []int) bool {
+	for _, other := range list {
+		if sameNumbers(other, order) {
+			return true
+		}
+	}
+	return false
+}
+
+// plainSame returns all orders that come of one by exchanging neighbours that do not depend on each other, the one itself first.
+func plainSame(p impl.Program, order []int) [][]int {
+	list := [][]int{order}
+	for i := 0; i < len(list); i++ {
+		events, _, _ := plainEvents(p, list[i])
+		for at := 1; at < len(events); at++ {
+			if plainDepend(events[at-1], events[at]) {
+				continue
+			}
+			other := append([]int{}, list[i]...)
+			other[at-1] = list[i][at]
+			other[at] = list[i][at-1]
+			if !hasOrder(list, other) {
+				list = append(list, other)
+			}
+		}
+	}
+	return list
+}
+
+// orderAhead reports whether an order stands ahead of another one as long, by the first thread that differs.
+func orderAhead(a []int, b []int) bool {
+	for i := range a {
+		if a[i] != b[i] {
+			return a[i] < b[i]
+		}
+	}
+	return false
+}
+
+// plainFirst returns the first one of some orders.
+func plainFirst(list [][]int) []int {
+	first := list[0]
+	for _, order := range list {
+		if orderAhead(order, first) {
+			first = order
+		}
+	}
+	return first
+}
