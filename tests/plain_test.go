@@ -324,3 +324,135 @@ func plainFirst(list [][]int) []int {
 	}
 	return first
 }
+
+// plainLeads reports whether an event happens before a later one without a third one between them.
+func plainLeads(a impl.Event, b impl.Event) bool {
+	if a.Thread == b.Thread {
+		return true
+	}
+	thingA, _ := plainThing(a.Stmt)
+	thingB, _ := plainThing(b.Stmt)
+	if thingA != thingB {
+		return false
+	}
+	return a.Stmt.Kind == 7 && b.Stmt.Kind == 6 || a.Stmt.Kind == 8 && b.Stmt.Kind == 9 || a.Stmt.Kind == 9 && b.Stmt.Kind == 8
+}
+
+// plainChain reports whether a chain of events, each of which leads to the next one, goes from one event of an order to a later one.
+func plainChain(events []impl.Event, i int, k int) bool {
+	if i >= k {
+		return false
+	}
+	if plainLeads(events[i], events[k]) {
+		return true
+	}
+	for third := i + 1; third < k; third++ {
+		if plainLeads(events[i], events[third]) && plainChain(events, third, k) {
+			return true
+		}
+	}
+	return false
+}
+
+// plainBefore returns for each two events whether the first one happens before the second one.
+func plainBefore(events []impl.Event) [][]bool {
+	list := [][]bool{}
+	for i := range events {
+		row := []bool{}
+		for k := range events {
+			row = append(row, plainChain(events, i, k))
+		}
+		list = append(list, row)
+	}
+	return list
+}
+
+// plainConflict reports whether two statements are at the same place, and not both only read.
+func plainConflict(a impl.Stmt, b impl.Stmt) bool {
+	thingA, readsA := plainThing(a)
+	thingB, readsB := plainThing(b)
+	return thingA >= 0 && thingA < 3 && thingA == thingB && !(readsA && readsB)
+}
+
+// plainRaces returns the pairs of events that race, as they stand in order.
+func plainRaces(events []impl.Event) [][]int {
+	list := [][]int{}
+	for i, a := range events {
+		for k, b := range events {
+			if i < k && a.Thread != b.Thread && plainConflict(a.Stmt, b.Stmt) && !plainChain(events, i, k) {
+				list = append(list, []int{i, k})
+			}
+		}
+	}
+	return list
+}
+
+// plainRacy is the first whole order of a program that has events that race, whether there is one, and at which places events race in any.
+type plainRacy struct {
+	order  []int
+	races  bool
+	places []bool
+}
+
+func plainRacyOf(p impl.Program) plainRacy {
+	racy := plainRacy{places: make([]bool, 3)}
+	for _, order := range plainOrdersOf(p).whole {
+		events, _, _ := plainEvents(p, order)
+		races := plainRaces(events)
+		if len(races) > 0 && !racy.races {
+			racy.order, racy.races = order, true
+		}
+		for _, pair := range races {
+			place, _ := plainThing(events[pair[0]].Stmt)
+			racy.places[place] = true
+		}
+	}
+	return racy
+}
+
+// plainGuards returns for each place and each lock whether no whole order has a statement at the place that is done without the lock.
+func plainGuards(p impl.Program) [][]bool {
+	guards := [][]bool{{true, true}, {true, true}, {true, true}}
+	for _, order := range plainOrdersOf(p).whole {
+		s := plainBegin()
+		for _, thread := range order {
+			place, _ := plainThing(p.Threads[thread][s.at[thread]])
+			for lock, owner := range s.owner {
+				if place >= 0 && place < 3 && owner != thread {
+					guards[place][lock] = false
+				}
+			}
+			s, _ = plainStep(p, s, thread)
+		}
+	}
+	return guards
+}
+
+// plainContested returns for each place whether statements of two threads conflict there, done or not.
+func plainContested(p impl.Program) []bool {
+	places := make([]bool, 3)
+	for one, stmts := range p.Threads {
+		for _, others := range p.Threads[one+1:] {
+			for _, a := range stmts {
+				for _, b := range others {
+					place, _ := plainThing(a)
+					if plainConflict(a, b) {
+						places[place] = true
+					}
+				}
+			}
+		}
+	}
+	return places
+}
+
+// plainGuarded reports whether each place for which statements of two threads conflict has a lock.
+func plainGuarded(p impl.Program) bool {
+	guards := plainGuards(p)
+	for place, contested := range plainContested(p) {
+		if contested && !guards[place][0] && !guards[place][1] {
+			return false
+		}
+	}
+	return true
+}
