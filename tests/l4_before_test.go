@@ -301,30 +301,40 @@ func checkNothingBefore(t *testing.T, p impl.Program, order []int) {
 	}
 }
 
-func TestBeforeOfWhatIsNoOrder(t *testing.T) {
-	for _, p := range append(guardPrograms(), threadedPrograms()...) {
-		for _, thread := range noThreads(len(p.Threads)) {
-			checkNothingBefore(t, p, []int{thread})
-			checkNothingBefore(t, p, []int{0, thread})
-			checkNothingBefore(t, p, []int{thread, 0})
-		}
-		checkNothingBefore(t, p, make([]int, 7))
-		checkNothingBefore(t, p, make([]int, 100000))
-	}
-	checkNothingBefore(t, handOn(), []int{1})
-	checkNothingBefore(t, handOn(), []int{0, 0, 1, 1, 1})
-	checkNothingBefore(t, keptLocks(), []int{0, 0, 1})
-	checkNothingBefore(t, toldTwice(), []int{0, 0, 1, 2})
-	checkNothingBefore(t, programOf(threadOf(unlockOf(0))), []int{0})
+// attempt is a program, and threads that may be an order of it.
+type attempt struct {
+	p     impl.Program
+	order []int
 }
 
-func TestBeforeOfAllOrders(t *testing.T) {
+// noOrders returns attempts that are no orders: with threads that there are not, that are done, or that have to wait.
+func noOrders() []attempt {
+	list := []attempt{
+		{handOn(), []int{1}},
+		{handOn(), []int{0, 0, 1, 1, 1}},
+		{keptLocks(), []int{0, 0, 1}},
+		{toldTwice(), []int{0, 0, 1, 2}},
+		{programOf(threadOf(unlockOf(0))), []int{0}},
+	}
+	for _, p := range append(guardPrograms(), threadedPrograms()...) {
+		for _, thread := range noThreads(len(p.Threads)) {
+			list = append(list, attempt{p, []int{thread}}, attempt{p, []int{0, thread}}, attempt{p, []int{thread, 0}})
+		}
+		list = append(list, attempt{p, make([]int, 7)}, attempt{p, make([]int, 100000)})
+	}
 	for _, p := range append(fewPrograms(), guardPrograms()...) {
 		for _, order := range ordersUpTo(4, len(p.Threads)) {
 			if _, _, can := plainEvents(p, order); !can {
-				checkNothingBefore(t, p, order)
+				list = append(list, attempt{p, order})
 			}
 		}
+	}
+	return list
+}
+
+func TestBeforeOfWhatIsNoOrder(t *testing.T) {
+	for _, none := range noOrders() {
+		checkNothingBefore(t, none.p, none.order)
 	}
 }
 
