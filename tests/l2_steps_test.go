@@ -149,15 +149,20 @@ func TestStateOkOfWhatNoInterleavingComesTo(t *testing.T) {
 	}
 }
 
-// brokenStates returns what are no states of a program, for each list: a number just outside at each entry, too few numbers, and too many.
+// brokenStates returns what are no states of a program, but nearly its beginning.
 func brokenStates(p impl.Program) []impl.State {
 	begin, _ := impl.Begin(p)
+	return brokenFrom(p, begin)
+}
+
+// brokenFrom returns what are no states of a program, but nearly one, for each list: a number just outside at each entry, too few numbers, and too many.
+func brokenFrom(p impl.Program, s impl.State) []impl.State {
 	list := []impl.State{{}}
 	for i, spans := range spansOf(p) {
 		for at, may := range spans {
-			list = append(list, changed(begin, []change{{i, at, may.low - 1}}), changed(begin, []change{{i, at, may.high + 1}}))
+			list = append(list, changed(s, []change{{i, at, may.low - 1}}), changed(s, []change{{i, at, may.high + 1}}))
 		}
-		shorter, longer, none := stateLists(copied(begin)), stateLists(copied(begin)), stateLists(copied(begin))
+		shorter, longer, none := stateLists(copied(s)), stateLists(copied(s)), stateLists(copied(s))
 		shorter[i] = shorter[i][1:]
 		longer[i] = append(longer[i], 0)
 		none[i] = nil

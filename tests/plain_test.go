@@ -456,3 +456,88 @@ func plainGuarded(p impl.Program) bool {
 	}
 	return true
 }
+
+// plainStuck reports whether some thread is not done in a state, and none can do its next statement.
+func plainStuck(p impl.Program, s plainState) bool {
+	left := 0
+	for thread, stmts := range p.Threads {
+		if _, ok := plainStep(p, s, thread); ok {
+			return false
+		}
+		left += len(stmts) - s.at[thread]
+	}
+	return left > 0
+}
+
+// plainWaits returns for each thread who has the lock that it is to take next, or -1.
+func plainWaits(p impl.Program, s plainState) []int {
+	list := []int{}
+	for thread, stmts := range p.Threads {
+		who := -1
+		if at := s.at[thread]; at < len(stmts) && stmts[at].Kind == 6 {
+			who = s.owner[stmts[at].A]
+		}
+		list = append(list, who)
+	}
+	return list
+}
+
+// plainStuckOrder returns the first whole order of a program that comes to a state in which it is stuck, and whether there is one.
+func plainStuckOrder(p impl.Program) ([]int, bool) {
+	for _, order := range plainOrdersOf(p).whole {
+		if _, s, _ := plainEvents(p, order); plainStuck(p, s) {
+			return order, true
+		}
+	}
+	return nil, false
+}
+
+// plainPairs returns for each lock, and for each lock, whether some whole order has a thread take this one while it has that one.
+func plainPairs(p impl.Program) [][]bool {
+	pairs := [][]bool{{false, false}, {false, false}}
+	for _, order := range plainOrdersOf(p).whole {
+		s := plainBegin()
+		for _, thread := range order {
+			st := p.Threads[thread][s.at[thread]]
+			for lock, owner := range s.owner {
+				if st.Kind == 6 && owner == thread {
+					pairs[lock][st.A] = true
+				}
+			}
+			s, _ = plainStep(p, s, thread)
+		}
+	}
+	return pairs
+}
+
+// plainAscends reports whether a thread takes only locks greater than all that it has, lets only those free that it has, has none in the end, and does not send, get or skip.
+func plainAscends(stmts []impl.Stmt) bool {
+	has := [2]bool{}
+	for _, st := range stmts {
+		switch st.Kind {
+		case 8, 9, 10:
+			return false
+		case 6:
+			if has[1] || st.A == 0 && has[0] {
+				return false
+			}
+			has[st.A] = true
+		case 7:
+			if !has[st.A] {
+				return false
+			}
+			has[st.A] = false
+		}
+	}
+	return !has[0] && !has[1]
+}
+
+// plainAscending reports whether all threads of a program do so.
+func plainAscending(p impl.Program) bool {
+	for _, stmts := range p.Threads {
+		if !plainAscends(stmts) {
+			return false
+		}
+	}
+	return true
+}
