@@ -749,6 +749,12 @@ func roomyLocks() (impl.Program, []impl.Stmt) {
 func checkRoomyLocks(t *testing.T, name string, p impl.Program, array []impl.Stmt) {
 	t.Helper()
 	fresh, stmts := roomyLocks()
+	checkRoomy(t, name, p, array, fresh, stmts)
+}
+
+// checkRoomy fails the test if a program with room behind its threads, or the array in which these lie, is not as a fresh one.
+func checkRoomy(t *testing.T, name string, p impl.Program, array []impl.Stmt, fresh impl.Program, stmts []impl.Stmt) {
+	t.Helper()
 	if !sameProgram(p, fresh) || !sameThread(array, stmts) {
 		t.Errorf("%s has changed its program: %v, %v", name, p, array)
 	}

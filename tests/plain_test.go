@@ -541,3 +541,127 @@ func plainAscending(p impl.Program) bool {
 	}
 	return true
 }
+
+// plainBuffered is a state, and for each thread how many stores its buffer has, and the place and the value of each, the oldest one first; what it has not stays 0.
+type plainBuffered struct {
+	s      plainState
+	counts [3]int
+	stores [3][7][2]int
+}
+
+// plainBufferedOf returns a state that has the right lengths as arrays.
+func plainBufferedOf(s impl.Buffered) plainBuffered {
+	b := plainBuffered{s: plainOf(s.State)}
+	for thread, list := range s.Bufs {
+		b.counts[thread] = len(list) / 2
+		for i, n := range list {
+			b.stores[thread][i/2][i%2] = n
+		}
+	}
+	return b
+}
+
+// bufferedOf returns a plain state of so many threads as lists.
+func bufferedOf(b plainBuffered, threads int) impl.Buffered {
+	s := impl.Buffered{State: stateOf(b.s, threads)}
+	for thread := range threads {
+		list := []int{}
+		for i := range b.counts[thread] {
+			list = append(list, b.stores[thread][i][0], b.stores[thread][i][1])
+		}
+		s.Bufs = append(s.Bufs, list)
+	}
+	return s
+}
+
+// plainReads returns what a thread reads at a place: each store there in its buffer hides what was there before.
+func plainReads(b plainBuffered, thread int, place int) int {
+	value := b.s.mem[place]
+	for i := range b.counts[thread] {
+		if b.stores[thread][i][0] == place {
+			value = b.stores[thread][i][1]
+		}
+	}
+	return value
+}
+
+// plainTake returns the state behind the oldest store of a buffer, and whether there is one.
+func plainTake(b plainBuffered, thread int) (plainBuffered, bool) {
+	if b.counts[thread] == 0 {
+		return b, false
+	}
+	b.s.mem[b.stores[thread][0][0]] = b.stores[thread][0][1]
+	for i := 1; i < 7; i++ {
+		b.stores[thread][i-1] = b.stores[thread][i]
+	}
+	b.stores[thread][6] = [2]int{}
+	b.counts[thread]--
+	return b, true
+}
+
+// plainBufStep returns the state behind a step on the machine with buffers, and whether it can be done.
+func plainBufStep(p impl.Program, b plainBuffered, step int) (plainBuffered, bool) {
+	threads := len(p.Threads)
+	if step < 0 || step >= 2*threads {
+		return b, false
+	}
+	if step >= threads {
+		return plainTake(b, step-threads)
+	}
+	next, ok := plainStep(p, b.s, step)
+	if !ok {
+		return b, false
+	}
+	st := p.Threads[step][b.s.at[step]]
+	count := b.counts[step]
+	switch {
+	case st.Kind == 2 && !st.Strong:
+		b.stores[step][count] = [2]int{st.A, next.mem[st.A]}
+		b.counts[step]++
+		next.mem = b.s.mem
+	case st.Kind == 1 && !st.Strong:
+		next.regs[step][st.A] = plainReads(b, step, st.B)
+	case st.Kind != 0 && st.Kind != 10 && count > 0:
+		return b, false
+	}
+	b.s = next
+	return b, true
+}
+
+// bufWalk is what steps on the machine with buffers come to: states, each once, also by how far their threads are, and outcomes, each once and in order.
+type bufWalk struct {
+	states   []plainBuffered
+	byAt     [7][7][7][]plainBuffered
+	outcomes walk
+}
+
+// addState adds a state that is not there.
+func (w *bufWalk) addState(b plainBuffered) {
+	room := &w.byAt[b.s.at[0]][b.s.at[1]][b.s.at[2]]
+	for _, other := range *room {
+		if other == b {
+			return
+		}
+	}
+	*room = append(*room, b)
+	w.states = append(w.states, b)
+}
+
+// bufWalkOf returns what all steps of a program come to. They come to finitely many states, and each is gone on from once.
+func bufWalkOf(p impl.Program) *bufWalk {
+	w := &bufWalk{}
+	w.addState(plainBuffered{s: plainBegin()})
+	for i := 0; i < len(w.states); i++ {
+		ended := true
+		for step := range 2 * len(p.Threads) {
+			if next, ok := plainBufStep(p, w.states[i], step); ok {
+				ended = false
+				w.addState(next)
+			}
+		}
+		if ended {
+			w.outcomes.addOutcome(plainOutcome(p, w.states[i].s))
+		}
+	}
+	return w
+}
