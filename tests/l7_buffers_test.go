@@ -192,13 +192,18 @@ func TestBufferedStatesThatAreNone(t *testing.T) {
 	}
 }
 
-func TestBuffersOfWhatIsNoProgram(t *testing.T) {
+// storedNoPrograms returns programs that are none: those of the other chapters, and such with too many stores or threads, or one number too great.
+func storedNoPrograms() []impl.Program {
 	stores := threadOf(storeOf(0), storeOf(1), storeOf(2), storeOf(0), storeOf(1), storeOf(2), storeOf(0))
-	more := []impl.Program{
+	list := []impl.Program{
 		programOf(stores), programOf(stores[:6], stores[:4]), programOf(stores[:1], stores[:1], stores[:1], stores[:1]),
 		programOf(threadOf(storeOf(3))), programOf(threadOf(storeTo(0, 4))), programOf(threadOf(loadInto(0, 3))), programOf(threadOf(strong(fences(1)[0]))),
 	}
-	for _, p := range append(append(noPrograms(), lockedNoPrograms()...), more...) {
+	return append(append(list, noPrograms()...), lockedNoPrograms()...)
+}
+
+func TestBuffersOfWhatIsNoProgram(t *testing.T) {
+	for _, p := range storedNoPrograms() {
 		if s, ok := impl.BufBegin(p); ok || !isNoBuffered(s) {
 			t.Errorf("BufBegin(%v) = %v, %v", p, s, ok)
 		}
@@ -346,13 +351,16 @@ func TestBufDoOfEachKind(t *testing.T) {
 	}
 }
 
-func TestBufWaiting(t *testing.T) {
-	cases := []struct {
-		name    string
-		s       impl.Stmt
-		changes []change
-		want    bool
-	}{
+// waitCase is a statement, changes of a filled state, and whether the first thread can do it then with empty buffers.
+type waitCase struct {
+	name    string
+	s       impl.Stmt
+	changes []change
+	want    bool
+}
+
+func waitCases() []waitCase {
+	return []waitCase{
 		{"a lock that nobody has", lockOf(1), []change{{ofOwner, 1, -1}}, true},
 		{"a lock that the thread itself has", lockOf(1), []change{{ofOwner, 1, 0}}, false},
 		{"a lock that another thread has", lockOf(1), []change{{ofOwner, 1, 1}}, false},
@@ -364,7 +372,10 @@ func TestBufWaiting(t *testing.T) {
 		{"a get from a channel that is empty", getFrom(1), []change{{ofChan, 1, -1}}, false},
 		{"a get from a channel that has 0", getFrom(1), []change{{ofChan, 1, 0}}, true},
 	}
-	for _, c := range cases {
+}
+
+func TestBufWaiting(t *testing.T) {
+	for _, c := range waitCases() {
 		p := programOf(threadOf(c.s), threadOf(c.s))
 		s := changed(filled(), c.changes)
 		for _, other := range [][]int{nil, {0, 1}, fullBuf(6)} {
@@ -519,12 +530,17 @@ func checkSteps(t *testing.T, p impl.Program, b plainBuffered) int {
 	return can
 }
 
-func TestStepsOfEachStatement(t *testing.T) {
-	states := []impl.State{
+// statesOfThree returns states of three threads that have not the same in registers, places, locks and channels.
+func statesOfThree() []impl.State {
+	return []impl.State{
 		{At: []int{0, 0, 0}, Regs: []int{1, 2, 3, 0, 1, 2, 3, 0, 1}, Mem: []int{3, 2, 1}, Owner: []int{-1, 0}, Chan: []int{-1, 2}},
 		{At: []int{0, 0, 1}, Regs: []int{0, 0, 2, 3, 3, 3, 0, 0, 0}, Mem: []int{0, 1, 3}, Owner: []int{0, 2}, Chan: []int{0, -1}},
 		{At: []int{0, 0, 0}, Regs: []int{3, 1, 0, 0, 2, 1, 1, 1, 1}, Mem: []int{1, 0, 2}, Owner: []int{1, -1}, Chan: []int{3, 1}},
 	}
+}
+
+func TestStepsOfEachStatement(t *testing.T) {
+	states := statesOfThree()
 	for _, st := range goodStmts() {
 		first, last := programOf(threadOf(st, fences(1)[0]), nil, fences(1)), programOf(fences(2), nil, threadOf(st))
 		for i, s := range states {
@@ -776,25 +792,29 @@ func crossedThread(stores int, between int, loads int, seed uint32) ([]impl.Stmt
 	return list, seed
 }
 
-// crossedPrograms returns programs whose threads store first, and load then, so that many have outcomes that no interleavings have.
-func crossedPrograms() []impl.Program {
+// crossedOf returns so many programs with threads of each of such drawn stores, statements and loads.
+func crossedOf(counts [][][3]int, count int, seed uint32) []impl.Program {
 	list := []impl.Program{}
-	seed := uint32(41)
-	for _, threads := range [][][3]int{
-		{{1, 0, 1}, {1, 0, 1}}, {{1, 1, 1}, {1, 0, 1}}, {{2, 0, 1}, {1, 1, 1}}, {{1, 1, 2}, {2, 0, 2}}, {{2, 1, 2}, {1, 1, 2}},
-		{{1, 0, 1}, {1, 0, 1}, {1, 0, 0}}, {{1, 0, 1}, {1, 0, 1}, {1, 0, 1}}, {{1, 1, 1}, {0, 0, 2}, {1, 0, 1}},
-	} {
-		for range 80 {
+	for _, threads := range counts {
+		for range count {
 			p := impl.Program{}
-			for _, counts := range threads {
+			for _, each := range threads {
 				stmts := []impl.Stmt{}
-				stmts, seed = crossedThread(counts[0], counts[1], counts[2], seed)
+				stmts, seed = crossedThread(each[0], each[1], each[2], seed)
 				p.Threads = append(p.Threads, stmts)
 			}
 			list = append(list, p)
 		}
 	}
 	return list
+}
+
+// crossedPrograms returns programs whose threads store first, and load then, so that many have outcomes that no interleavings have.
+func crossedPrograms() []impl.Program {
+	return crossedOf([][][3]int{
+		{{1, 0, 1}, {1, 0, 1}}, {{1, 1, 1}, {1, 0, 1}}, {{2, 0, 1}, {1, 1, 1}}, {{1, 1, 2}, {2, 0, 2}}, {{2, 1, 2}, {1, 1, 2}},
+		{{1, 0, 1}, {1, 0, 1}, {1, 0, 0}}, {{1, 0, 1}, {1, 0, 1}, {1, 0, 1}}, {{1, 1, 1}, {0, 0, 2}, {1, 0, 1}},
+	}, 80, 41)
 }
 
 // largestPrograms returns programs of as many statements as there may be.

@@ -665,3 +665,139 @@ func bufWalkOf(p impl.Program) *bufWalk {
 	}
 	return w
 }
+
+// plainSpread is a state, and for each thread and each place how many values its buffer has, and these, the oldest one first; what it has not stays 0.
+type plainSpread struct {
+	s      plainState
+	counts [3][3]int
+	values [3][3][7]int
+}
+
+// plainSpreadOf returns a state that has the right lengths as arrays.
+func plainSpreadOf(s impl.Spread) plainSpread {
+	b := plainSpread{s: plainOf(s.State)}
+	for buffer, list := range s.Bufs {
+		b.counts[buffer/3][buffer%3] = len(list)
+		for i, value := range list {
+			b.values[buffer/3][buffer%3][i] = value
+		}
+	}
+	return b
+}
+
+// spreadOf returns a plain state of so many threads as lists.
+func spreadOf(b plainSpread, threads int) impl.Spread {
+	s := impl.Spread{State: stateOf(b.s, threads)}
+	for thread := range threads {
+		for place, count := range b.counts[thread] {
+			s.Bufs = append(s.Bufs, append([]int{}, b.values[thread][place][:count]...))
+		}
+	}
+	return s
+}
+
+// plainSpreadReads returns what a thread reads at a place.
+func plainSpreadReads(b plainSpread, thread int, place int) int {
+	count := b.counts[thread][place]
+	if count == 0 {
+		return b.s.mem[place]
+	}
+	return b.values[thread][place][count-1]
+}
+
+// plainSpreadTake returns the state behind the oldest value of a buffer, and whether there is one.
+func plainSpreadTake(b plainSpread, thread int, place int) (plainSpread, bool) {
+	if b.counts[thread][place] == 0 {
+		return b, false
+	}
+	values := b.values[thread][place]
+	b.s.mem[place] = values[0]
+	b.values[thread][place] = [7]int{values[1], values[2], values[3], values[4], values[5], values[6]}
+	b.counts[thread][place]--
+	return b, true
+}
+
+// plainSpreadStep returns the state behind a step on the machine with a buffer for each place, and whether it can be done.
+func plainSpreadStep(p impl.Program, b plainSpread, step int) (plainSpread, bool) {
+	threads := len(p.Threads)
+	for thread := range threads {
+		for place := range 3 {
+			if step == threads+3*thread+place {
+				return plainSpreadTake(b, thread, place)
+			}
+		}
+	}
+	if step < 0 || step >= threads {
+		return b, false
+	}
+	next, ok := plainStep(p, b.s, step)
+	if !ok {
+		return b, false
+	}
+	st := p.Threads[step][b.s.at[step]]
+	switch {
+	case st.Kind == 2 && !st.Strong:
+		b.values[step][st.A][b.counts[step][st.A]] = next.mem[st.A]
+		b.counts[step][st.A]++
+		next.mem = b.s.mem
+	case st.Kind == 1 && !st.Strong:
+		next.regs[step][st.A] = plainSpreadReads(b, step, st.B)
+	case st.Kind != 0 && st.Kind != 10 && b.counts[step] != [3]int{}:
+		return b, false
+	}
+	b.s = next
+	return b, true
+}
+
+// spreadWalk is what steps on the machine with a buffer for each place come to: states, each once, also in rooms by a number that hangs on what they have, and outcomes, each once and in order.
+type spreadWalk struct {
+	states   []plainSpread
+	rooms    [1021][]plainSpread
+	outcomes walk
+}
+
+// roomOf returns the number of a state's room.
+func roomOf(b plainSpread) int {
+	n := uint(0)
+	for thread := range 3 {
+		n = 7*n + uint(b.s.at[thread])
+		for i := range 3 {
+			n = 31*n + uint(7*b.s.regs[thread][i]+b.counts[thread][i])
+		}
+	}
+	for _, value := range b.s.mem {
+		n = 5*n + uint(value)
+	}
+	return int(n % 1021)
+}
+
+// addState adds a state that is not there.
+func (w *spreadWalk) addState(b plainSpread) {
+	room := &w.rooms[roomOf(b)]
+	for _, other := range *room {
+		if other == b {
+			return
+		}
+	}
+	*room = append(*room, b)
+	w.states = append(w.states, b)
+}
+
+// spreadWalkOf returns what all steps of a program come to. They come to finitely many states, and each is gone on from once.
+func spreadWalkOf(p impl.Program) *spreadWalk {
+	w := &spreadWalk{}
+	w.addState(plainSpread{s: plainBegin()})
+	for i := 0; i < len(w.states); i++ {
+		ended := true
+		for step := range 4 * len(p.Threads) {
+			if next, ok := plainSpreadStep(p, w.states[i], step); ok {
+				ended = false
+				w.addState(next)
+			}
+		}
+		if ended {
+			w.outcomes.addOutcome(plainOutcome(p, w.states[i].s))
+		}
+	}
+	return w
+}
