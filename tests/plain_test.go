@@ -801,3 +801,255 @@ func spreadWalkOf(p impl.Program) *spreadWalk {
 	}
 	return w
 }
+
+// plainNote is a store: its value, the index that its view has at each place, and whether it is glued.
+type plainNote struct {
+	value int
+	view  [3]int
+	glued bool
+}
+
+// plainViewed is a state whose places have noughts; for each place how many stores it has, and these, in order; and views: three of threads, two of locks, two of channels, and that of the fences. What it has not stays 0.
+type plainViewed struct {
+	s      plainState
+	counts [3]int
+	notes  [3][10]plainNote
+	views  [8][3]int
+}
+
+// The first view of locks and of channels, and that of the fences.
+const (
+	ofLocks  = 3
+	ofChans  = 5
+	ofFences = 7
+)
+
+func plainViewBegin() plainViewed {
+	return plainViewed{s: plainBegin(), counts: [3]int{1, 1, 1}}
+}
+
+// plainView returns a view as an array.
+func plainView(view []int) [3]int { return [3]int{view[0], view[1], view[2]} }
+
+// plainViewedOf returns a state that has the right lengths as arrays.
+func plainViewedOf(s impl.Viewed) plainViewed {
+	v := plainViewed{s: plainOf(s.State)}
+	for place, notes := range s.Notes {
+		v.counts[place] = len(notes)
+		for i, n := range notes {
+			v.notes[place][i] = plainNote{n.Value, plainView(n.View), n.Glued}
+		}
+	}
+	for i, view := range s.Views {
+		v.views[i] = plainView(view)
+	}
+	for i := range 2 {
+		v.views[ofLocks+i] = plainView(s.Locks[i])
+		v.views[ofChans+i] = plainView(s.Chans[i])
+	}
+	v.views[ofFences] = plainView(s.Fence)
+	return v
+}
+
+// viewLists returns some views as lists.
+func viewLists(views [][3]int) [][]int {
+	list := [][]int{}
+	for _, view := range views {
+		list = append(list, []int{view[0], view[1], view[2]})
+	}
+	return list
+}
+
+// viewedOf returns a plain state of so many threads as lists.
+func viewedOf(v plainViewed, threads int) impl.Viewed {
+	s := impl.Viewed{State: stateOf(v.s, threads)}
+	for place, count := range v.counts {
+		notes := []impl.Note{}
+		for _, n := range v.notes[place][:count] {
+			notes = append(notes, impl.Note{Value: n.value, View: viewLists([][3]int{n.view})[0], Glued: n.glued})
+		}
+		s.Notes = append(s.Notes, notes)
+	}
+	s.Views = viewLists(v.views[:threads])
+	s.Locks = viewLists(v.views[ofLocks:ofChans])
+	s.Chans = viewLists(v.views[ofChans:ofFences])
+	s.Fence = viewLists(v.views[ofFences:])[0]
+	return s
+}
+
+// plainWays returns the ways of the next statement of a thread.
+func plainWays(p impl.Program, v plainViewed, thread int) []int {
+	if thread < 0 || thread >= len(p.Threads) {
+		return nil
+	}
+	if _, ok := plainStep(p, v.s, thread); !ok {
+		return nil
+	}
+	st := p.Threads[thread][v.s.at[thread]]
+	place, reads := plainThing(st)
+	if place < 0 || place > 2 {
+		return []int{0}
+	}
+	ways := []int{}
+	for i := range v.counts[place] {
+		last := i == v.counts[place]-1
+		if i >= v.views[thread][place] && (reads || last || !v.notes[place][i+1].glued) {
+			ways = append(ways, i)
+		}
+	}
+	return ways
+}
+
+// plainJoin returns a view with the greater indexes of two.
+func plainJoin(a [3]int, b [3]int) [3]int {
+	for place := range 3 {
+		if b[place] > a[place] {
+			a[place] = b[place]
+		}
+	}
+	return a
+}
+
+// plainPut returns the state with a store more right behind one, all indexes behind that moved on; its view is that of its thread then if it is strong.
+func plainPut(v plainViewed, thread int, place int, behind int, n plainNote, isStrong bool) plainViewed {
+	for i := range v.views {
+		if v.views[i][place] > behind {
+			v.views[i][place]++
+		}
+	}
+	for other := range 3 {
+		for i := range v.counts[other] {
+			if v.notes[other][i].view[place] > behind {
+				v.notes[other][i].view[place]++
+			}
+		}
+	}
+	v.views[thread][place] = behind + 1
+	n.view[place] = behind + 1
+	if isStrong {
+		n.view = v.views[thread]
+	}
+	for i := v.counts[place]; i > behind+1; i-- {
+		v.notes[place][i] = v.notes[place][i-1]
+	}
+	v.notes[place][behind+1] = n
+	v.counts[place]++
+	return v
+}
+
+// plainSee returns the state behind a thread's reading a store, strongly or not.
+func plainSee(v plainViewed, thread int, place int, i int, isStrong bool) plainViewed {
+	v.views[thread][place] = i
+	if isStrong {
+		v.views[thread] = plainJoin(v.views[thread], v.notes[place][i].view)
+	}
+	return v
+}
+
+// plainMeet returns the state in which a thread and another view have what both had.
+func plainMeet(v plainViewed, thread int, other int) plainViewed {
+	v.views[thread] = plainJoin(v.views[thread], v.views[other])
+	v.views[other] = v.views[thread]
+	return v
+}
+
+// plainViewStep returns the state behind the next statement of a thread in a way, and whether it can be done.
+func plainViewStep(p impl.Program, v plainViewed, thread int, way int) (plainViewed, bool) {
+	if !hasNumber(plainWays(p, v, thread), way) || v.counts[0] > 9 || v.counts[1] > 9 || v.counts[2] > 9 {
+		return v, false
+	}
+	st := p.Threads[thread][v.s.at[thread]]
+	regs := v.s.regs[thread]
+	v.s, _ = plainStep(p, v.s, thread)
+	v.s.mem = [3]int{}
+	switch st.Kind {
+	case 1:
+		v.s.regs[thread][st.A] = v.notes[st.B][way].value
+		v = plainSee(v, thread, st.B, way, st.Strong)
+	case 2:
+		v = plainPut(v, thread, st.A, way, plainNote{value: plainSum(regs, st.B, st.C)}, st.Strong)
+	case 3:
+		v.s.regs[thread][st.A] = v.notes[st.B][way].value
+		v = plainPut(plainSee(v, thread, st.B, way, true), thread, st.B, way, plainNote{value: st.C, glued: true}, true)
+	case 4:
+		old := v.notes[st.B][way].value
+		v.s.regs[thread][st.A] = old
+		v = plainPut(plainSee(v, thread, st.B, way, true), thread, st.B, way, plainNote{value: (old + st.C) % 4, glued: true}, true)
+	case 5:
+		v = plainMeet(v, thread, ofFences)
+	case 6:
+		v.views[thread] = plainJoin(v.views[thread], v.views[ofLocks+st.A])
+	case 7:
+		v.views[ofLocks+st.A] = v.views[thread]
+	case 8:
+		v = plainMeet(v, thread, ofChans+st.A)
+	case 9:
+		v = plainMeet(v, thread, ofChans+st.B)
+	}
+	return v, true
+}
+
+// plainViewOutcome returns what a state has: as places, the values of the last stores.
+func plainViewOutcome(p impl.Program, v plainViewed) impl.Outcome {
+	for place, count := range v.counts {
+		v.s.mem[place] = v.notes[place][count-1].value
+	}
+	return plainOutcome(p, v.s)
+}
+
+// viewWalk is what statements on the machine with views come to: states, each once, also in rooms by a number that hangs on what they have, and outcomes, each once and in order.
+type viewWalk struct {
+	states   []plainViewed
+	rooms    [4093][]int
+	outcomes walk
+}
+
+// viewedRoom returns the number of a state's room.
+func viewedRoom(v plainViewed) int {
+	n := uint(0)
+	for thread := range 3 {
+		n = 7*n + uint(v.s.at[thread])
+		for i := range 3 {
+			n = 31*n + uint(7*v.s.regs[thread][i]+v.views[thread][i])
+		}
+	}
+	for place, count := range v.counts {
+		for i := range count {
+			note := v.notes[place][i]
+			n = 29*n + uint(note.value+5*note.view[0]+3*note.view[1]+7*note.view[2])
+		}
+	}
+	return int(n % 4093)
+}
+
+// addState adds a state that is not there.
+func (w *viewWalk) addState(v plainViewed) {
+	room := &w.rooms[viewedRoom(v)]
+	for _, i := range *room {
+		if w.states[i] == v {
+			return
+		}
+	}
+	*room = append(*room, len(w.states))
+	w.states = append(w.states, v)
+}
+
+// viewWalkOf returns what all statements of a program, in all ways, come to. They come to finitely many states, and each is gone on from once.
+func viewWalkOf(p impl.Program) *viewWalk {
+	w := &viewWalk{}
+	w.addState(plainViewBegin())
+	for i := 0; i < len(w.states); i++ {
+		ended := true
+		for thread := range p.Threads {
+			for _, way := range plainWays(p, w.states[i], thread) {
+				ended = false
+				next, _ := plainViewStep(p, w.states[i], thread, way)
+				w.addState(next)
+			}
+		}
+		if ended {
+			w.outcomes.addOutcome(plainViewOutcome(p, w.states[i]))
+		}
+	}
+	return w
+}
