@@ -1053,3 +1053,274 @@ func viewWalkOf(p impl.Program) *viewWalk {
 	}
 	return w
 }
+
+// plainReader reports whether a statement reads a place, and plainWriter whether it writes one.
+func plainReader(st impl.Stmt) bool { return st.Kind == 1 || st.Kind == 3 || st.Kind == 4 }
+func plainWriter(st impl.Stmt) bool { return st.Kind == 2 || st.Kind == 3 || st.Kind == 4 }
+
+// plainStrong reports whether a statement is strong, a swap or a sum.
+func plainStrong(st impl.Stmt) bool { return st.Strong || st.Kind == 3 || st.Kind == 4 }
+
+// plainPlace returns the place of a statement, or -1.
+func plainPlace(st impl.Stmt) int {
+	if thing, _ := plainThing(st); thing < 3 {
+		return thing
+	}
+	return -1
+}
+
+// plainSimple reports whether a program, which is one, is simple.
+func plainSimple(p impl.Program) bool {
+	placed := 0
+	for _, stmts := range p.Threads {
+		for _, st := range stmts {
+			if st.Kind >= 5 && st.Kind <= 9 {
+				return false
+			}
+			if plainPlace(st) >= 0 {
+				placed++
+			}
+		}
+	}
+	return placed <= 5
+}
+
+// plainTale is what an execution tells: its events, from which one each reads, what each wrote, and the state behind them, whose places have noughts.
+type plainTale struct {
+	s      plainState
+	events []impl.Event
+	from   []int
+	wrote  []int
+}
+
+// plainMayRead reports whether a statement that is done next may read from an event.
+func plainMayRead(t plainTale, st impl.Stmt, from int) bool {
+	if from == -1 {
+		return true
+	}
+	if !plainReader(st) || from < 0 || from >= len(t.events) {
+		return false
+	}
+	return plainWriter(t.events[from].Stmt) && plainPlace(t.events[from].Stmt) == plainPlace(st)
+}
+
+// plainTell returns what is told with the next statement of a thread, which reads from an event, and whether that can be.
+func plainTell(p impl.Program, t plainTale, thread int, from int) (plainTale, bool) {
+	if thread < 0 || thread >= len(p.Threads) || t.s.at[thread] == len(p.Threads[thread]) {
+		return t, false
+	}
+	at := t.s.at[thread]
+	st := p.Threads[thread][at]
+	if !plainMayRead(t, st, from) {
+		return t, false
+	}
+	read, wrote := 0, 0
+	if from >= 0 {
+		read = t.wrote[from]
+	}
+	regs := t.s.regs[thread]
+	s, _ := plainStep(p, t.s, thread)
+	s.mem = [3]int{}
+	if plainReader(st) {
+		s.regs[thread][st.A] = read
+	}
+	switch st.Kind {
+	case 2:
+		wrote = plainSum(regs, st.B, st.C)
+	case 3:
+		wrote = st.C
+	case 4:
+		wrote = (read + st.C) % 4
+	}
+	events := append(append([]impl.Event{}, t.events...), impl.Event{Thread: thread, At: at, Stmt: st})
+	return plainTale{s, events, longer(t.from, from), longer(t.wrote, wrote)}, true
+}
+
+// plainEnded reports whether all threads are done.
+func plainEnded(p impl.Program, t plainTale) bool {
+	for thread, stmts := range p.Threads {
+		if t.s.at[thread] < len(stmts) {
+			return false
+		}
+	}
+	return true
+}
+
+// plainWriters returns the indexes of the events that write a place.
+func plainWriters(t plainTale, place int) []int {
+	list := []int{}
+	for i, e := range t.events {
+		if plainWriter(e.Stmt) && plainPlace(e.Stmt) == place {
+			list = append(list, i)
+		}
+	}
+	return list
+}
+
+// plainTold returns what an execution tells, and whether it is one of a program, which is one.
+func plainTold(p impl.Program, e impl.Exec) (plainTale, bool) {
+	t := plainTale{s: plainBegin()}
+	if !plainSimple(p) || len(e.Order) != len(e.From) || len(e.Mods) != 3 {
+		return t, false
+	}
+	for i, thread := range e.Order {
+		next, ok := plainTell(p, t, thread, e.From[i])
+		if !ok {
+			return t, false
+		}
+		t = next
+	}
+	for place, mods := range e.Mods {
+		writers := plainWriters(t, place)
+		if len(mods) != len(writers) {
+			return t, false
+		}
+		for _, i := range writers {
+			if !hasNumber(mods, i) {
+				return t, false
+			}
+		}
+	}
+	return t, plainEnded(p, t)
+}
+
+// plainExecOutcome returns what an execution comes to.
+func plainExecOutcome(p impl.Program, t plainTale, mods [][]int) impl.Outcome {
+	for place, list := range mods {
+		for _, i := range list {
+			t.s.mem[place] = t.wrote[i]
+		}
+	}
+	return plainOutcome(p, t.s)
+}
+
+// plainTells reports whether an event happens before a later one without a third one between them.
+func plainTells(t plainTale, i int, k int) bool {
+	a, b := t.events[i], t.events[k]
+	if a.Thread == b.Thread {
+		return true
+	}
+	return t.from[k] == i && plainStrong(a.Stmt) && plainStrong(b.Stmt)
+}
+
+// plainHappens returns for each two events whether the first one happens before the second one.
+func plainHappens(t plainTale) [][]bool {
+	rows := [][]bool{}
+	for i := range t.events {
+		rows = append(rows, make([]bool, len(t.events)))
+		for k := i + 1; k < len(t.events); k++ {
+			rows[i][k] = plainTells(t, i, k)
+		}
+	}
+	for third := range rows {
+		for i := range rows {
+			for k := range rows {
+				if rows[i][third] && rows[third][k] {
+					rows[i][k] = true
+				}
+			}
+		}
+	}
+	return rows
+}
+
+// plainNumbers returns for each event the numbers of the stores that it reads and writes; -1 where it reads or writes none.
+func plainNumbers(t plainTale, mods [][]int) ([]int, []int) {
+	reads, writes := []int{}, []int{}
+	for range t.events {
+		reads, writes = append(reads, -1), append(writes, -1)
+	}
+	for _, list := range mods {
+		for at, i := range list {
+			writes[i] = at + 1
+		}
+	}
+	for k, e := range t.events {
+		if plainReader(e.Stmt) {
+			reads[k] = 0
+			if t.from[k] >= 0 {
+				reads[k] = writes[t.from[k]]
+			}
+		}
+	}
+	return reads, writes
+}
+
+// plainCoherent reports whether an execution is coherent.
+func plainCoherent(t plainTale, mods [][]int) bool {
+	reads, writes := plainNumbers(t, mods)
+	happens := plainHappens(t)
+	for i, a := range t.events {
+		if plainReader(a.Stmt) && plainWriter(a.Stmt) && writes[i] != reads[i]+1 {
+			return false
+		}
+		for k, b := range t.events {
+			if !happens[i][k] || plainPlace(a.Stmt) < 0 || plainPlace(a.Stmt) != plainPlace(b.Stmt) {
+				continue
+			}
+			if plainReader(b.Stmt) && (reads[k] < reads[i] || reads[k] < writes[i]) {
+				return false
+			}
+			if plainWriter(b.Stmt) && (writes[k] <= reads[i] || writes[k] <= writes[i]) {
+				return false
+			}
+		}
+	}
+	return true
+}
+
+// arrangements returns all orders of some numbers.
+func arrangements(list []int) [][]int {
+	if len(list) == 0 {
+		return [][]int{{}}
+	}
+	all := [][]int{}
+	for _, order := range arrangements(list[1:]) {
+		for at := range len(list) {
+			with := append(append([]int{}, order[:at]...), list[0])
+			all = append(all, append(with, order[at:]...))
+		}
+	}
+	return all
+}
+
+// modsOf returns all orders of the events that write each place.
+func modsOf(t plainTale) [][][]int {
+	all := [][][]int{}
+	for _, first := range arrangements(plainWriters(t, 0)) {
+		for _, second := range arrangements(plainWriters(t, 1)) {
+			for _, third := range arrangements(plainWriters(t, 2)) {
+				all = append(all, [][]int{first, second, third})
+			}
+		}
+	}
+	return all
+}
+
+// plainTalesFrom returns what all executions of a simple program tell that begin as one.
+func plainTalesFrom(p impl.Program, t plainTale) []plainTale {
+	if plainEnded(p, t) {
+		return []plainTale{t}
+	}
+	list := []plainTale{}
+	for thread := range p.Threads {
+		for from := -1; from < len(t.events); from++ {
+			if next, ok := plainTell(p, t, thread, from); ok {
+				list = append(list, plainTalesFrom(p, next)...)
+			}
+		}
+	}
+	return list
+}
+
+// plainTales returns what all executions of a simple program tell, whatever the orders of their stores.
+func plainTales(p impl.Program) []plainTale { return plainTalesFrom(p, plainTale{s: plainBegin()}) }
+
+// execOfTale returns an execution that tells that, with orders of its stores.
+func execOfTale(t plainTale, mods [][]int) impl.Exec {
+	e := impl.Exec{From: t.from, Mods: mods}
+	for _, event := range t.events {
+		e.Order = append(e.Order, event.Thread)
+	}
+	return e
+}
